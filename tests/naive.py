@@ -1,0 +1,104 @@
+"""Slow and plain ways to the same answers, and samples, for the tests alone."""
+
+import itertools
+import random
+from collections import Counter
+
+BIG = 10 ** 39 + 7  # forty figures
+
+# None of these is a product, a sum, a row, a sum of rows, a part or a place.
+STRANGE = [
+    None, True, False, "", "a", "1", "(1,)", [], [1], [[1]], [(1,)], -1, -BIG,
+    (None,), (True,), (False,), ("1",), ([],), ([1],), (-1,), (1, -1), (1, True), (1, None), (1, "1"),
+    ((None,),), ((True,),), ((False,),), (("a",),), ([1],), ([],), ((-1,),), ((1,), None), ((1,), [2]), [((1,),)],
+    (((1,),),), ((((1,),),),), (((((((((1,),),),),),),),),),
+]
+
+
+def odd(things):
+    """The sum of the things, by counting them all."""
+    return tuple(sorted(thing for thing, count in Counter(things).items() if count % 2))
+
+
+def times(one, other):
+    return odd([tuple(e + f for e, f in zip(p, q)) for p in one for q in other])
+
+
+def letter(n, i, e=1):
+    return tuple(e if j == i else 0 for j in range(n))
+
+
+def sent(n, some, images):
+    """Each letter i becomes images[i], one factor at a time, without any short cut."""
+    told = []
+    for product in some:
+        made = ((0,) * n,)
+        for e, image in zip(product, images):
+            for _ in range(e):
+                made = times(made, image)
+        told.extend(made)
+    return odd(told)
+
+
+def put(m, some, table):
+    return sent(m, some, [odd([letter(m, i) for i in row]) for row in table])
+
+
+def whole(some):
+    """Each letter x becomes x + x x."""
+    if not some:
+        return ()
+    n = len(some[0])
+    return sent(n, some, [odd([letter(n, i), letter(n, i, 2)]) for i in range(n)])
+
+
+def raised(some, k):
+    told = []
+    for product in some:
+        told.extend(p for p in whole((product,)) if sum(p) == sum(product) + k)
+    return odd(told)
+
+
+def products_of(n, d):
+    if n == 1:
+        return [(d,)]
+    return [(e,) + rest for e in range(d + 1) for rest in products_of(n - 1, d - e)]
+
+
+def any_sum(rng, n, most, degree):
+    """A sum of at most so many products, of at most this degree."""
+    told = []
+    for _ in range(most):
+        d = rng.randint(0, degree)
+        product = [0] * n
+        for _ in range(d):
+            product[rng.randrange(n)] += 1
+        told.append(tuple(product))
+    return tuple(sorted(set(told)))
+
+
+def any_sum_of_degree(rng, n, most, d):
+    told = set()
+    for _ in range(most):
+        product = [0] * n
+        for _ in range(d):
+            product[rng.randrange(n)] += 1
+        told.add(tuple(product))
+    return tuple(sorted(told))
+
+
+def any_table(rng, n, m, longest):
+    return tuple(tuple(sorted(rng.sample(range(m), rng.randint(0, min(longest, m))))) for _ in range(n))
+
+
+def source(seed):
+    return random.Random(seed)
+
+
+def bounds(n):
+    """How many products a sum of n letters has at most, and of which degree at most."""
+    return (40, 24) if n <= 3 else (8, 10)
+
+
+def pairs(things):
+    return itertools.product(things, things)
