@@ -1,6 +1,7 @@
 """Slow and plain ways to the same answers, and samples, for the tests alone."""
 
 import itertools
+import math
 import random
 from collections import Counter
 
@@ -102,3 +103,46 @@ def bounds(n):
 
 def pairs(things):
     return itertools.product(things, things)
+
+
+def done(rows, some):
+    """Each row by itself, its last part first."""
+    told = []
+    for row in rows:
+        made = some
+        for part in reversed(row):
+            made = raised(made, part)
+        told.extend(made)
+    return odd(told)
+
+
+def pair(a, b):
+    told = [(a + b - c, c)[: 2 if c else 1] for c in range(a // 2 + 1) if math.comb(b - c - 1, a - 2 * c) % 2]
+    return tuple(sorted(told))
+
+
+def slow_places(row):
+    return [i for i in range(len(row) - 1) if row[i] < 2 * row[i + 1]]
+
+
+def exchanged(rows, row, place):
+    made = [row[:place] + two + row[place + 2:] for two in pair(row[place], row[place + 1])]
+    return odd(list(rows) + [row] + made)
+
+
+def rows_raising(r, most=6):
+    """All rows of at most so many parts that raise by r."""
+    if r == 0:
+        return [()]
+    if most == 0:
+        return []
+    return [(part,) + rest for part in range(1, r + 1) for rest in rows_raising(r - part, most - 1)]
+
+
+def any_rows(rng, most, raises):
+    """A sum of at most so many rows, each of which raises by one of these."""
+    return tuple(sorted({rng.choice(rows_raising(rng.choice(raises))) for _ in range(most)}))
+
+
+def ones(n, m):
+    return ((1,) * m + (0,) * (n - m),)
