@@ -1,5 +1,6 @@
 """Slow and plain ways to the same answers, and samples, for the tests alone."""
 
+import functools
 import itertools
 import math
 import random
@@ -146,3 +147,100 @@ def any_rows(rng, most, raises):
 
 def ones(n, m):
     return ((1,) * m + (0,) * (n - m),)
+
+
+def counts_raise(counts):
+    return sum((2 ** i - 1) * number for i, number in enumerate(counts, start=1))
+
+
+@functools.lru_cache(None)
+def counts_raising(r):
+    """All counts that raise by r, sorted, by trying all numbers."""
+    told = []
+    for length in range(5):
+        for counts in itertools.product(*[range(r // (2 ** i - 1) + 1) for i in range(1, length + 1)]):
+            if counts_raise(counts) == r and (not counts or counts[-1]):
+                told.append(counts)
+    return tuple(sorted(told))
+
+
+def any_counts(rng, most, raises):
+    """A sum of at most so many counts, each of which raises by one of these."""
+    return tuple(sorted({rng.choice(counts_raising(rng.choice(raises))) for _ in range(most)}))
+
+
+def compositions(e, length):
+    if length == 1:
+        return [(e,)]
+    return [(first,) + rest for first in range(e + 1) for rest in compositions(e - first, length - 1)]
+
+
+def apart(numbers):
+    """Whether no two of them have a binary 1 at the same place."""
+    return all(one & other == 0 for one, other in itertools.combinations(numbers, 2))
+
+
+@functools.lru_cache(None)
+def partings(e):
+    return [parts for parts in compositions(e, 5) if apart(parts)]
+
+
+def counts_done(counts, some):
+    """By parting each exponent in all ways, all counts at once."""
+    wanted = {numbers + (0,) * (4 - len(numbers)) for numbers in counts}
+    told = []
+    for product in some:
+        here = {((), (0, 0, 0, 0)): 1}
+        for e in product:
+            there = Counter()
+            for (made, totals), ways in here.items():
+                for parts in partings(e):
+                    totals_now = tuple(t + part for t, part in zip(totals, parts[1:]))
+                    if any(all(t <= w for t, w in zip(totals_now, want)) for want in wanted):
+                        there[made + (sum(part << i for i, part in enumerate(parts)),), totals_now] += ways
+            here = there
+        for (made, totals), ways in here.items():
+            if totals in wanted and ways % 2:
+                told.append(made)
+    return odd(told)
+
+
+def counts_by_letters(counts, some):
+    """Each letter x becomes x + xx t + xxxx u + .., multiplied out; the new letters tell the counts."""
+    told = []
+    for product in some:
+        n = len(product)
+        images = []
+        for i in range(n):
+            images.append(odd([letter(n, i, 2 ** j) + letter(5, j) for j in range(5)]))
+        for made in sent(n + 5, (product + (0,) * 5,), images + [((0,) * (n + 5),)] * 5):
+            if tuple(made[n + 1:]) in {numbers + (0,) * (4 - len(numbers)) for numbers in counts}:
+                told.append(made[:n])
+    return odd(told)
+
+
+def lines(number):
+    """All x(i, 0), .., x(i, 4) whose sum, each times 2 to its place, is the number."""
+    return [x for x in itertools.product(*[range((number >> j) + 1) for j in range(5)])
+            if sum(v << j for j, v in enumerate(x)) == number]
+
+
+def tables(r, s):
+    """All tables of which counts are made, and the counts."""
+    r, s = (numbers + (0,) * (4 - len(numbers)) for numbers in (r, s))
+    told = []
+    for body in itertools.product(*[lines(number) for number in r]):
+        top = tuple(s[j] - sum(line[j + 1] for line in body) for j in range(4))
+        if min(top) >= 0:
+            table = [(0,) + top] + list(body)
+            slopes = [[table[i][t - i] for i in range(5) if 0 <= t - i <= 4] for t in range(1, 9)]
+            if all(apart(slope) for slope in slopes):
+                made = [sum(slope) for slope in slopes]
+                while made and made[-1] == 0:
+                    made.pop()
+                told.append(tuple(made))
+    return told
+
+
+def counts_times(one, other):
+    return odd([made for r in one for s in other for made in tables(r, s)])
