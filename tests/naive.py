@@ -244,3 +244,67 @@ def tables(r, s):
 
 def counts_times(one, other):
     return odd([made for r in one for s in other for made in tables(r, s)])
+
+
+def settle(rows):
+    """By exchanges of a row of the greatest moment, its last place first."""
+    while True:
+        can = [row for row in rows if slow_places(row)]
+        if not can:
+            return tuple(rows)
+        row = max(can, key=lambda row: sum(i * part for i, part in enumerate(row, start=1)))
+        rows = exchanged(rows, row, slow_places(row)[-1])
+
+
+def behind(one, other):
+    return odd([first + second for first in one for second in other])
+
+
+@functools.lru_cache(None)
+def part_turned(k):
+    if k == 0:
+        return ((),)
+    return settle(odd([(i,) + rest for i in range(1, k + 1) for rest in part_turned(k - i)]))
+
+
+def turned(rows):
+    told = []
+    for row in rows:
+        made = ((),)
+        for part in row:
+            made = settle(behind(part_turned(part), made))
+        told.extend(made)
+    return odd(told)
+
+
+def counts_of(rows):
+    told = []
+    for row in rows:
+        made = ((),)
+        for part in reversed(row):
+            made = counts_times(((part,),), made)
+        told.extend(made)
+    return odd(told)
+
+
+def lowered(row, k):
+    """By trying all numbers for all letters."""
+    told = []
+    for product in row:
+        for less in itertools.product(*[range(e // 2 + 1) for e in product]):
+            if sum(less) == k and all(math.comb(e - j, j) % 2 for e, j in zip(product, less)):
+                told.append(tuple(e - j for e, j in zip(product, less)))
+    return odd(told)
+
+
+def lowered_by_meeting(row, k):
+    """All products that, raised by k, meet the row oddly."""
+    if not row:
+        return ()
+    n = len(row[0])
+    told = []
+    for d in {sum(product) for product in row}:
+        for product in products_of(n, d - k) if d >= k else []:
+            if len(set(raised((product,), k)) & set(row)) % 2:
+                told.append(product)
+    return odd(told)

@@ -139,7 +139,8 @@ class Language(unittest.TestCase):
             self.assertFalse(bound & set(dir(builtins)), path)
             self.assertFalse(bound & drawn, path)
             self.assertFalse(tops & drawn, path)
-            self.assertFalse((bound - tops) & tops, path)
+            defined = {n.name for n in tree.body if isinstance(n, (ast.FunctionDef, ast.ClassDef))}
+            self.assertFalse(bound & defined, path)
             self.assertFalse([name for name in bound | tops if name.startswith("_")], path)
             for node in ast.walk(tree):
                 if isinstance(node, ast.Name) and isinstance(node.ctx, ast.Load):
