@@ -143,6 +143,14 @@ class RowsBy(unittest.TestCase):
             self.assertIs(are_counts(counts), True)
             self.assertEqual(len({rows_by((one,)) for one in counts}), len(steep))
 
+    def test_each_steep_row_is_led_by_counts_of_its_own(self):
+        # On this it hangs that taking counts away from the last one on ends, compared from behind.
+        for r in range(17):
+            for row in steep_rows(r):
+                own = [part - 2 * after for part, after in zip(row, row[1:] + (0,))]
+                last = max((numbers + (0,) * (4 - len(numbers)))[::-1] for numbers in naive.counts_of((row,)))
+                self.assertEqual(list(last[::-1]), own + [0] * (4 - len(own)))
+
     def test_asked_again_the_same(self):
         counts = ((0, 1), (1, 2), (4, 4))
         first = rows_by(counts)
