@@ -3,6 +3,9 @@
 from raisedsums.errors import NoProduct
 from raisedsums.parity import flip, is_rising, is_whole, odd_ones
 
+FEW_LETTERS = 3
+MOST_JUDGED = 200
+
 
 def is_product(n, thing):
     if not isinstance(thing, tuple) or len(thing) != n:
@@ -42,3 +45,28 @@ def degrees(some):
 
 def of_degree(some, d):
     return tuple([product for product in some if sum(product) == d])
+
+
+def most_degree(n):
+    return 24 if n <= FEW_LETTERS else 10
+
+
+def number_of_products(n, d):
+    # The ways to choose n - 1 of d + n - 1 things, one factor at a time: each step comes out even.
+    told = 1
+    for i in range(1, n):
+        told = told * (d + i) // i
+    return told
+
+
+def products_of_degree(n, d):
+    if n == 1:
+        return [(d,)]
+    told = []
+    for e in range(d + 1):
+        told.extend([(e,) + rest for rest in products_of_degree(n - 1, d - e)])
+    return told
+
+
+def can_be_judged(n, d):
+    return d <= most_degree(n) and number_of_products(n, d) <= MOST_JUDGED

@@ -308,3 +308,52 @@ def lowered_by_meeting(row, k):
             if len(set(raised((product,), k)) & set(row)) % 2:
                 told.append(product)
     return odd(told)
+
+
+@functools.lru_cache(None)
+def all_raised(n, d):
+    """Of all products of all lesser degrees what they make when raised to the degree d."""
+    return tuple(raised((p,), k) for k in range(1, d + 1) for p in products_of(n, d - k))
+
+
+def led(sums):
+    """Sums added to one another until each leads with a last product of its own."""
+    told = {}
+    for some in sums:
+        left = set(some)
+        while left and max(left) in told:
+            left ^= told[max(left)]
+        if left:
+            told[max(left)] = left
+    return told
+
+
+def is_made_of(sums, some):
+    leads = led(sums)
+    return len(led(list(leads.values()) + [some])) == len(leads)
+
+
+def standing(n, d):
+    """Each product is asked by itself: is it made of raised ones and of those ahead of it?"""
+    told = []
+    products = products_of(n, d)
+    for place, product in enumerate(products):
+        ahead = [(other,) for other in products[:place]]
+        if not is_made_of(list(all_raised(n, d)) + ahead, (product,)):
+            told.append(product)
+    return told
+
+
+def all_sums(things):
+    for chosen in itertools.product((False, True), repeat=len(things)):
+        yield tuple(thing for thing, taken in zip(things, chosen) if taken)
+
+
+def is_even(n, d, row):
+    return all(len(set(row) & set(some)) % 2 == 0 for some in all_raised(n, d))
+
+
+def greatest_degree(n):
+    """The greatest degree of which sums of n letters are judged."""
+    top = 24 if n <= 3 else 10
+    return max(d for d in range(top + 1) if math.comb(d + n - 1, n - 1) <= 200)
