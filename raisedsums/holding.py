@@ -1,20 +1,14 @@
 """Two sums of rows held against one another: they do the same, or a product of letters tells them apart."""
 
 from raisedsums.errors import TooMany
-from raisedsums.rows import done, rows_added
+from raisedsums.rows import can_be_held, done, rows_added
 from raisedsums.settling import settled
 
-MOST_ROWS = 6
-MOST_HELD = 8
 LETTERS = 8
 
 
 def ones(m):
     return ((1,) * m + (0,) * (LETTERS - m),)
-
-
-def can_be_held(rows):
-    return len(rows) <= MOST_ROWS and all([sum(row) <= MOST_HELD for row in rows])
 
 
 def left_of_both(one, other):

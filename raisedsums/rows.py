@@ -7,6 +7,8 @@ from raisedsums.sums import added
 
 MOST_PARTS = 6
 MOST_RAISED = 16
+MOST_ROWS_HELD = 6
+MOST_RAISED_HELD = 8
 
 
 def fits(row):
@@ -23,6 +25,10 @@ def are_rows(thing):
     if not isinstance(thing, tuple):
         return False
     return all([is_row(row) for row in thing]) and is_rising(thing)
+
+
+def can_be_held(rows):
+    return len(rows) <= MOST_ROWS_HELD and all([sum(row) <= MOST_RAISED_HELD for row in rows])
 
 
 def rows_of(things):

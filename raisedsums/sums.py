@@ -3,8 +3,13 @@
 from raisedsums.errors import NoProduct
 from raisedsums.parity import flip, is_rising, is_whole, odd_ones
 
+MOST_LETTERS = 10
 FEW_LETTERS = 3
 MOST_JUDGED = 200
+
+
+def is_number_of_letters(thing):
+    return is_whole(thing) and 1 <= thing <= MOST_LETTERS
 
 
 def is_product(n, thing):
@@ -47,8 +52,16 @@ def of_degree(some, d):
     return tuple([product for product in some if sum(product) == d])
 
 
+def most_products(n):
+    return 40 if n <= FEW_LETTERS else 8
+
+
 def most_degree(n):
     return 24 if n <= FEW_LETTERS else 10
+
+
+def can_be_handed_in(n, some):
+    return len(some) <= most_products(n) and all([sum(product) <= most_degree(n) for product in some])
 
 
 def number_of_products(n, d):

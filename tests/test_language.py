@@ -81,6 +81,9 @@ class Language(unittest.TestCase):
             self.check_function(node, where)
         elif isinstance(node, ast.BinOp):
             self.assertNotIsInstance(node.op, (ast.Div, ast.MatMult, ast.Pow), where)
+        elif isinstance(node, ast.FormattedValue):
+            self.assertIsInstance(node.value, ast.Name, where)
+            self.assertIsNone(node.format_spec, where)
         elif isinstance(node, ast.Constant):
             self.assertIsInstance(node.value, (int, str, type(None)), where)
             if isinstance(node.value, str):
@@ -103,6 +106,15 @@ class Language(unittest.TestCase):
                     self.assertEqual(node.level, 0, path)
                     self.assertIn(node, tree.body, path)
                     self.assertRegex(node.module, r"^raisedsums\.[a-z_]+$")
+
+    def test_names_at_the_top_have_plain_values(self):
+        for path, _, tree in self.each():
+            for node in tree.body:
+                if isinstance(node, ast.Assign):
+                    value = ast.literal_eval(node.value)
+                    within = list(value.values()) if isinstance(value, dict) else value
+                    if isinstance(within, (list, tuple)):
+                        self.assertFalse([each for each in within if isinstance(each, (list, dict))], path)
 
     def test_names_come_from_where_they_are_defined(self):
         tops = {path.stem: self.bound_at_top(tree) for path, _, tree in self.each()}
